@@ -1,0 +1,1 @@
+"""Primepapers: papers that a number is prime."""

@@ -1,0 +1,105 @@
+"""The forms of LANGUAGE.md that can be read off the package's files."""
+
+import ast
+import builtins
+import pathlib
+import unittest
+
+FOLDER = pathlib.Path(__file__).resolve().parent.parent / "primepapers"
+
+FORMS = (
+    ast.Module, ast.Import, ast.ImportFrom, ast.alias, ast.FunctionDef, ast.arguments, ast.arg, ast.ClassDef,
+    ast.Lambda, ast.Assign, ast.AugAssign, ast.AnnAssign, ast.If, ast.While, ast.For, ast.Return, ast.Break,
+    ast.Continue, ast.Pass, ast.Raise, ast.Try, ast.ExceptHandler, ast.Expr, ast.Assert, ast.Delete, ast.Name,
+    ast.Constant, ast.List, ast.Tuple, ast.Dict, ast.Set, ast.BinOp, ast.UnaryOp, ast.BoolOp, ast.Compare,
+    ast.IfExp, ast.Call, ast.keyword, ast.Attribute, ast.Subscript, ast.Slice, ast.ListComp, ast.DictComp,
+    ast.SetComp, ast.comprehension, ast.JoinedStr, ast.FormattedValue, ast.Starred, ast.operator, ast.unaryop,
+    ast.boolop, ast.cmpop, ast.expr_context,
+)
+PYTHONS_OWN = set(
+    "len range enumerate zip min max sum abs sorted reversed int str bool bytes list tuple dict set frozenset "
+    "isinstance ord repr any all divmod Exception ValueError TypeError KeyError IndexError LookupError "
+    "ZeroDivisionError ArithmeticError OverflowError RuntimeError NotImplementedError AttributeError StopIteration".split()
+)
+TWO_UNDERSCORES = {"__init__", "__eq__", "__repr__", "__str__", "__len__"}
+WORDS = (
+    r"\b(type|typing|typing_extensions|enum|Enum|IntEnum|StrEnum|Flag|IntFlag|Generic|Protocol|ABC|ABCMeta|namedtuple"
+    r"|NamedTuple|TypedDict|TYPE_CHECKING|abstractmethod)\b|dataclass|overload|contextmanager"
+)
+
+
+def files():
+    return sorted(FOLDER.glob("*.py"))
+
+
+def nodes(file):
+    return list(ast.walk(ast.parse(file.read_text(encoding="ascii"))))
+
+
+def names_given(node):
+    """The names that a row gives, a def's, a class's and a parameter's among them."""
+    if isinstance(node, (ast.FunctionDef, ast.ClassDef)):
+        return [node.name]
+    if isinstance(node, ast.arg):
+        return [node.arg]
+    if isinstance(node, ast.Name) and isinstance(node.ctx, ast.Store):
+        return [node.id]
+    return []
+
+
+class Language(unittest.TestCase):
+    def test_nothing_but_plain_files_lies_in_the_package(self):
+        self.assertIn(FOLDER / "__init__.py", files())
+        for file in FOLDER.iterdir():
+            if file.name != "__pycache__":
+                self.assertRegex(file.name, r"^(__init__|[a-z][a-z0-9_]*)\.py$")
+
+    def test_signs_and_sizes(self):
+        for file in files():
+            text = file.read_text(encoding="ascii")
+            self.assertRegex(text, r"\A[ -~\n]*\Z", file.name)
+            self.assertNotRegex(text, WORDS, file.name)
+            self.assertLessEqual(len(text.splitlines()), 400, file.name)
+            self.assertLessEqual(max(map(len, text.splitlines())), 120, file.name)
+
+    def test_forms(self):
+        for file in files():
+            for node in nodes(file):
+                where = (file.name, getattr(node, "lineno", 0))
+                self.assertIsInstance(node, FORMS, where)
+                self.assertNotIsInstance(node, (ast.Div, ast.MatMult), where)
+                if isinstance(node, (ast.FunctionDef, ast.ClassDef)):
+                    self.assertEqual(node.decorator_list, [], where)
+                if isinstance(node, ast.FunctionDef):
+                    self.assertLessEqual(node.end_lineno - node.lineno + 1, 40, where)
+                if isinstance(node, ast.Constant):
+                    self.assertIn(type(node.value), (int, str, bytes, bool, type(None)), where)
+                    self.assertNotIn("%", node.value if isinstance(node.value, str) else "", where)
+                if isinstance(node, ast.BinOp) and isinstance(node.op, ast.Pow):
+                    self.assertIsInstance(node.right, ast.Constant, where)
+                    self.assertTrue(0 <= node.right.value <= 64, where)
+
+    def test_names(self):
+        for file in files():
+            for node in nodes(file):
+                where = (file.name, getattr(node, "lineno", 0))
+                if isinstance(node, ast.Name) and hasattr(builtins, node.id):
+                    self.assertIn(node.id, PYTHONS_OWN, where)
+                for name in names_given(node):
+                    if name not in TWO_UNDERSCORES:
+                        self.assertRegex(name, r"^[A-Za-z][A-Za-z0-9_]*$", where)
+                        self.assertFalse(hasattr(builtins, name), where)
+
+    def test_imports(self):
+        for file in files():
+            for node in nodes(file):
+                where = (file.name, getattr(node, "lineno", 0))
+                self.assertNotIsInstance(node, ast.Import, where)
+                if isinstance(node, ast.ImportFrom):
+                    self.assertEqual(node.level, 0, where)
+                    self.assertTrue(node.module.startswith("primepapers."), where)
+                    self.assertNotIn("*", [alias.name for alias in node.names], where)
+
+
+if __name__ == "__main__":
+    unittest.main()
