@@ -31,6 +31,10 @@ def want_number(thing, name):
     want_between(thing, 1, MOST, name)
 
 
+def want_tried(thing, name):
+    want_between(thing, 1, MOST_TRIED, name)
+
+
 def want_far(thing, name):
     want_between(thing, -MOST, MOST, name)
 

@@ -1,6 +1,7 @@
 """Primes, and the parts of a number, found by trying numbers up to the root."""
 
-from primepapers.checks import MOST_TRIED, want_between
+from primepapers.checks import MOST_TRIED, want_between, want_tried
+from primepapers.errors import NoPrime
 
 
 def is_prime(number):
@@ -11,7 +12,7 @@ def is_prime(number):
 
 def parts_of(number):
     """The rising tuple of tuples (prime, often) that, multiplied together, are the number."""
-    want_between(number, 1, MOST_TRIED, "number")
+    want_tried(number, "number")
     found = []
     left = number
     tried = 2
@@ -24,6 +25,22 @@ def parts_of(number):
             often += 1
         found.append((tried, often))
     return tuple(found)
+
+
+def want_prime(thing, name):
+    want_tried(thing, name)
+    if not is_prime(thing):
+        raise NoPrime(f"{name} is no prime")
+
+
+def want_odd_prime(thing, name):
+    want_prime(thing, name)
+    if thing == 2:
+        raise NoPrime(f"{name} is no odd prime")
+
+
+def primes_of(number):
+    return [prime for prime, often in parts_of(number)]
 
 
 def least_part(number, start):

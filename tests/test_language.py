@@ -19,7 +19,8 @@ FORMS = (
 PYTHONS_OWN = set(
     "len range enumerate zip min max sum abs sorted reversed int str bool bytes list tuple dict set frozenset "
     "isinstance ord repr any all divmod Exception ValueError TypeError KeyError IndexError LookupError "
-    "ZeroDivisionError ArithmeticError OverflowError RuntimeError NotImplementedError AttributeError StopIteration".split()
+    "ZeroDivisionError ArithmeticError OverflowError RuntimeError NotImplementedError AttributeError "
+    "StopIteration".split()
 )
 TWO_UNDERSCORES = {"__init__", "__eq__", "__repr__", "__str__", "__len__"}
 WORDS = (
@@ -45,6 +46,13 @@ def names_given(node):
     if isinstance(node, ast.Name) and isinstance(node.ctx, ast.Store):
         return [node.id]
     return []
+
+
+def names_at_the_top(row):
+    """The names that a row of a file's top binds, but for those that it draws in."""
+    if isinstance(row, ast.Assign):
+        return [target.id for target in row.targets]
+    return names_given(row)
 
 
 class Language(unittest.TestCase):
@@ -99,6 +107,39 @@ class Language(unittest.TestCase):
                     self.assertEqual(node.level, 0, where)
                     self.assertTrue(node.module.startswith("primepapers."), where)
                     self.assertNotIn("*", [alias.name for alias in node.names], where)
+
+    def test_names_are_drawn_from_the_file_that_defines_them(self):
+        for file in files():
+            for node in nodes(file):
+                if isinstance(node, ast.ImportFrom):
+                    drawn = FOLDER / f"{node.module.split('.')[1]}.py"
+                    own = [name for row in ast.parse(drawn.read_text()).body for name in names_at_the_top(row)]
+                    for alias in node.names:
+                        self.assertEqual(own.count(alias.name), 1, (file.name, alias.name))
+
+    def test_no_two_files_draw_from_one_another(self):
+        drawn = {}
+        for file in files():
+            rows = [node for node in nodes(file) if isinstance(node, ast.ImportFrom)]
+            drawn[file.stem] = {node.module.split(".")[1] for node in rows}
+        while drawn:
+            free = [stem for stem in drawn if not drawn[stem] & set(drawn)]
+            self.assertTrue(free, drawn)
+            for stem in free:
+                del drawn[stem]
+
+    def test_no_local_is_called_like_an_import_or_a_class(self):
+        for file in files():
+            taken = set()
+            for node in nodes(file):
+                if isinstance(node, ast.ImportFrom):
+                    taken.update(alias.name for alias in node.names)
+                if isinstance(node, ast.ClassDef):
+                    taken.add(node.name)
+            for node in nodes(file):
+                if not isinstance(node, ast.ClassDef):
+                    for name in names_given(node):
+                        self.assertNotIn(name, taken, (file.name, node.lineno))
 
 
 if __name__ == "__main__":

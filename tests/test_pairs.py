@@ -22,13 +22,6 @@ def plainly_multiplied(one, other, d, n):
     return (first % n, second % n)
 
 
-class PairCase(Case):
-    def pair(self, expected, answer):
-        self.assertIs(type(answer), tuple)
-        self.assertEqual([type(part) for part in answer], [int, int])
-        self.assertEqual(answer, expected)
-
-
 def multiplied_so_often(pair, often, d, n):
     made = (1 % n, 0)
     for _ in range(often):
