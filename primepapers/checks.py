@@ -27,6 +27,11 @@ def want_between(thing, least, most, name):
         raise NoNumber(f"{name} is no whole number from {least} to {most}")
 
 
+def want_odd(thing, least, most, name):
+    if not is_between(thing, least, most) or thing % 2 == 0:
+        raise NoNumber(f"{name} is no odd number from {least} to {most}")
+
+
 def want_number(thing, name):
     want_between(thing, 1, MOST, name)
 

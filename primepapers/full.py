@@ -24,8 +24,11 @@ def full_paper(n):
 def full_of_prime(p):
     if p == 2:
         return ("two",)
-    rows = [(prime, often, full_of_prime(prime)) for prime, often in parts_of(p - 1)]
-    return ("full", least_base(p, primes_of(p - 1)), tuple(rows))
+    return ("full", least_base(p, primes_of(p - 1)), full_rows(parts_of(p - 1)))
+
+
+def full_rows(parts):
+    return tuple([(prime, often, full_of_prime(prime)) for prime, often in parts])
 
 
 def many_full(n):
@@ -53,13 +56,13 @@ def full_size(n, paper):
 def full_depth(n, paper):
     """How many of its tuples "two" and "full" stand within one another at most."""
     want_full(n, paper)
-    return max([depth for number, depth in tuples_within(n, paper)])
+    return max([depth for number, inner, depth in tuples_within(n, paper)])
 
 
 def full_primes(n, paper):
     """The rising tuple of all primes that the full paper is about, each once."""
     want_full(n, paper)
-    return tuple(sorted({number for number, depth in tuples_within(n, paper)}))
+    return tuple(sorted({number for number, inner, depth in tuples_within(n, paper)}))
 
 
 def want_full(n, paper):

@@ -1,6 +1,7 @@
 """Looks at papers of all kinds: whether a thing is a paper of a number."""
 
 from primepapers.checks import is_between, is_whole, want_number
+from primepapers.errors import NoPaper
 from primepapers.pairs import norm_rest, pair_power
 from primepapers.rests import greatest_in_both, power_rest
 
@@ -12,6 +13,11 @@ def is_paper(n, thing):
     """Whether the thing is a paper of n, of whatever kind."""
     want_number(n, "n")
     return is_paper_with(n, thing, ALL_WORDS)
+
+
+def want_paper(n, thing, name):
+    if not is_paper_with(n, thing, ALL_WORDS):
+        raise NoPaper(f"{name} is no paper of the number")
 
 
 def is_paper_with(n, thing, words):
@@ -37,12 +43,12 @@ def rows_of(paper):
 
 
 def tuples_within(n, paper):
-    # Each tuple of the paper by its number and by how many stand round it, itself too.
+    # Each tuple of the paper, with its number and with how many stand round it, itself too.
     found = []
     left = [(n, paper, 1)]
     while len(left) > 0:
         number, inner, depth = left.pop()
-        found.append((number, depth))
+        found.append((number, inner, depth))
         for row in rows_of(inner):
             left.append((row[0], row[2], depth + 1))
     return found

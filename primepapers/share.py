@@ -1,7 +1,7 @@
 """Papers by a share: by some parts of the number one less, together more than the root of the number."""
 
 from primepapers.checks import want_number, want_tried
-from primepapers.full import full_of_prime
+from primepapers.full import full_rows
 from primepapers.orders import least_base
 from primepapers.papers import is_paper_with
 from primepapers.parts import is_prime, parts_of, want_odd_prime
@@ -19,9 +19,11 @@ def share_paper(n):
     want_tried(n, "n")
     if n == 2 or not is_prime(n):
         return None
-    parts = sorted(fewest_parts(n))
-    rows = [(prime, often, full_of_prime(prime)) for prime, often in parts]
-    return ("share", least_base(n, [prime for prime, often in parts]), tuple(rows))
+    return share_with(n, full_rows(sorted(fewest_parts(n))))
+
+
+def share_with(p, rows):
+    return ("share", least_base(p, [row[0] for row in rows]), rows)
 
 
 def fewest_rows(n):

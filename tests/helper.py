@@ -33,6 +33,11 @@ def wrong_numbers(least, most):
     return NO_WHOLE + (least - 1, most + 1, least - 10 ** 40, most + 10 ** 40, 10 ** 6000, -(10 ** 6000))
 
 
+def wrong_odds(least, most):
+    """Things of every kind that are no odd number from least to most."""
+    return wrong_numbers(least, most) + (0, 2, 4, 10, 100, 10 ** 6, 10 ** 9, MOST, least + 1, most - most % 2)
+
+
 def too_late(number, frame):
     raise AssertionError(f"not answered within {SECONDS} seconds")
 

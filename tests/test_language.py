@@ -23,6 +23,16 @@ PYTHONS_OWN = set(
     "StopIteration".split()
 )
 TWO_UNDERSCORES = {"__init__", "__eq__", "__repr__", "__str__", "__len__"}
+NOT_USED = set(
+    "register mro elements open input version_info with_traceback add_note attrgetter breakpoint builtins compile "
+    "copyright credits delattr dir eval exec exit gc getattr globals hasattr help id importlib license locals "
+    "methodcaller os quit setattr super type vars sys chr format format_map args".split()
+)
+PYTHONS_METHODS = set(
+    "append clear copy count endswith extend find get index insert isalnum isalpha isdigit islower isspace isupper "
+    "items join keys ljust lower lstrip partition pop remove replace reverse rfind rjust rpartition rsplit rstrip "
+    "setdefault split splitlines startswith strip update upper values zfill bit_length sort __init__".split()
+)
 WORDS = (
     r"\b(type|typing|typing_extensions|enum|Enum|IntEnum|StrEnum|Flag|IntFlag|Generic|Protocol|ABC|ABCMeta|namedtuple"
     r"|NamedTuple|TypedDict|TYPE_CHECKING|abstractmethod)\b|dataclass|overload|contextmanager"
@@ -97,6 +107,27 @@ class Language(unittest.TestCase):
                     if name not in TWO_UNDERSCORES:
                         self.assertRegex(name, r"^[A-Za-z][A-Za-z0-9_]*$", where)
                         self.assertFalse(hasattr(builtins, name), where)
+
+    def test_names_that_are_not_used(self):
+        for file in files():
+            for node in nodes(file):
+                names = [getattr(node, key, None) for key in ("id", "attr", "arg", "name")]
+                self.assertFalse(NOT_USED & {name for name in names if isinstance(name, str)}, (file.name, names))
+
+    def test_methods_and_values(self):
+        methods, values, asked = set(), set(), set()
+        for file in files():
+            for node in nodes(file):
+                if isinstance(node, ast.ClassDef):
+                    rows = [row for row in node.body if isinstance(row, ast.FunctionDef)]
+                    methods.update(row.name for row in rows if row.name != "__init__")
+                    self.assertEqual(len({row.name for row in rows}), len(rows), node.name)
+                if isinstance(node, ast.Attribute):
+                    (values if isinstance(node.ctx, ast.Store) else asked).add(node.attr)
+        self.assertFalse(methods & values)
+        self.assertFalse(asked - methods - values - PYTHONS_METHODS)
+        for own in (int, str, list, dict, set, bytes, tuple):
+            self.assertFalse((methods | values) & set(vars(own)) - {"__init__"})
 
     def test_imports(self):
         for file in files():
