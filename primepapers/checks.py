@@ -7,6 +7,8 @@ from primepapers.errors import NoNumber
 
 MOST = 10 ** 30
 MOST_TRIED = 10 ** 9
+# A prime up to 10 ** 30, and so each number in a paper of it, has no more figures.
+MOST_FIGURES = 30
 
 
 def is_whole(thing):

@@ -1,6 +1,6 @@
 """What the tests have in common: wrong things, a limit of time, looks at refusals, and papers read and made by hand.
 
-Nothing here asks the program: papers are read and made as the document's words say it.
+Nothing here asks the program: papers are read, made and written as the document's words say it.
 """
 
 import itertools
@@ -68,6 +68,12 @@ class Case(unittest.TestCase):
         self.assertEqual(str(caught.exception).split()[0], name)
         self.assertTrue(before == as_it_stands(things))
 
+    def refused_so(self, kind, deed, *things):
+        """The deed refuses the things with just this class; they may be too deep to be looked at here."""
+        with self.assertRaises(kind) as caught:
+            deed(*things)
+        self.assertIs(type(caught.exception), kind)
+
     def whole(self, expected, answer):
         self.assertIs(type(answer), int)
         self.assertEqual(answer, expected)
@@ -117,6 +123,30 @@ def pair_times_itself(pair, often, d, n):
         if figure == "1":
             made = pair_times(made, pair, d, n)
     return made
+
+
+def steps_home(pair, d, n):
+    """How often the pair is multiplied by itself until it is (1, 0) at first; None where never."""
+    made = pair
+    for often in range(1, 2 * n + 3):
+        if made == (1, 0):
+            return often
+        made = pair_times(made, pair, d, n)
+    return None
+
+
+def places_of_halves(n):
+    """The places t, t doubled, and so on, ahead of n - 1."""
+    places = [n - 1]
+    while places[0] % 2 == 0:
+        places.insert(0, places[0] // 2)
+    return places[:-1]
+
+
+def plain_halves(n, base):
+    """Whether the base, or its rest, lets n by, by halves."""
+    powers = [pow(base, place, n) for place in places_of_halves(n)]
+    return powers[0] == 1 or n - 1 in powers
 
 
 def within(thing, least, most):
@@ -229,6 +259,16 @@ def made_share_of_mixed(n):
 
 def made_other_of_mixed(n):
     return made_other(n, made_mixed)
+
+
+def written(paper):
+    """The paper's text, by point 100."""
+    if paper == ("two",):
+        return "two"
+    rows = "; ".join(f"{prime}^{often} {written(inner)}" for prime, often, inner in paper[-1])
+    if paper[0] == "other":
+        return f"other {paper[1]} {paper[2][0]} {paper[2][1]} [{rows}]"
+    return f"{paper[0]} {paper[1]} [{rows}]"
 
 
 def otherwise(thing):

@@ -4,7 +4,9 @@ import unittest
 
 from primepapers.errors import NoBases, NoNumber
 from primepapers.fools import all_fools, fooled, fools_all
-from tests.helper import MOST, MOST_TRIED, NO_WHOLE, Case, plain_parts, primes_to, wrong_numbers, wrong_odds
+from tests.helper import (
+    MOST, MOST_TRIED, NO_WHOLE, Case, plain_halves, plain_parts, primes_to, wrong_numbers, wrong_odds,
+)
 
 FOOLS = [
     561, 1105, 1729, 2465, 2821, 6601, 8911, 10585, 15841, 29341, 41041, 46657, 52633, 62745, 63973, 75361,
@@ -14,12 +16,7 @@ PRIMES = set(primes_to(20000))
 
 def let_by(n, base):
     """By halves, of the rest of the base; a rest 0 lets none by."""
-    rest = base % n
-    places = [n - 1]
-    while places[0] % 2 == 0:
-        places.insert(0, places[0] // 2)
-    powers = [pow(rest, place, n) for place in places[:-1]]
-    return rest != 0 and (powers[0] == 1 or n - 1 in powers)
+    return base % n != 0 and plain_halves(n, base % n)
 
 
 def tried(most, bases):

@@ -6,7 +6,8 @@ from primepapers.errors import NoNumber
 from primepapers.looks import by_halves, by_powers, many_by_halves, many_by_powers, share_by_halves
 from primepapers.signs import by_signs
 from tests.helper import (
-    GREAT_PRIMES, GREATEST_PRIME, MOST, MOST_TRIED, Case, plain_parts, primes_to, wrong_numbers, wrong_odds,
+    GREAT_PRIMES, GREATEST_PRIME, MOST, MOST_TRIED, Case, places_of_halves, plain_halves, plain_parts, primes_to,
+    wrong_numbers, wrong_odds,
 )
 
 NEAR_THE_MOST = (999999937, 999999929, 999999893, 999999883, 999999797)
@@ -31,19 +32,6 @@ def all_powers(n, base):
     for _ in range(n - 1):
         powers.append(powers[-1] * base % n)
     return powers
-
-
-def places_of_halves(n):
-    """The places t, t doubled, and so on, ahead of n - 1."""
-    places = [n - 1]
-    while places[0] % 2 == 0:
-        places.insert(0, places[0] // 2)
-    return places[:-1]
-
-
-def plain_halves(n, base):
-    powers = [pow(base, place, n) for place in places_of_halves(n)]
-    return powers[0] == 1 or n - 1 in powers
 
 
 def counted_by_parts(n):

@@ -9,7 +9,7 @@ from primepapers.papers import is_paper
 from primepapers.share import is_share, share_paper
 from tests.helper import (
     GREATEST_PRIME, MOST, MOST_TRIED, Case, altered, as_it_stands, made_full, made_mixed, made_other, made_rows,
-    made_share, nested, no_papers, pair_times, plain_parts, primes_to, reads, wrong_numbers,
+    made_share, nested, no_papers, plain_parts, primes_to, reads, steps_home, wrong_numbers,
 )
 
 TWO = ("two",)
@@ -20,16 +20,6 @@ NEAR_THE_MOST = (999999937, 999999929, 999999893, 999999883, 999999797)
 NO_PRIMES = (
     1, 4, 6, 9, 15, 323, 377, 561, 1729, 5777, 997 * 1009, 31607 ** 2, 31601 * 31607, MOST_TRIED - 1, MOST_TRIED,
 )
-
-
-def steps_home(pair, d, n):
-    """How often the pair is multiplied by itself until it is (1, 0) at first; None where never."""
-    made = pair
-    for often in range(1, 2 * n + 3):
-        if made == (1, 0):
-            return often
-        made = pair_times(made, pair, d, n)
-    return None
 
 
 class IsOther(Case):

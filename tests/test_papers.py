@@ -8,23 +8,14 @@ from primepapers.papers import is_paper
 from primepapers.share import is_share, share_paper
 from tests.helper import (
     GREATEST_PRIME, MOST, WORDS, Case, altered, as_it_stands, made_full, made_mixed, made_other, made_rows,
-    made_share, nested, no_papers, pair_times, plain_parts, primes_to, reads, share_of, wrong_numbers,
+    made_share, nested, no_papers, pair_times, plain_parts, primes_to, reads, share_of, steps_home,
+    wrong_numbers,
 )
 
 TWO = ("two",)
 THREE = ("full", 2, ((2, 1, TWO),))
 OTHER_THREE = ("other", 2, (0, 1), ((2, 2, TWO),))
 NO_PRIMES = (9, 15, 21, 25, 27, 33, 35, 49, 91, 121, 323, 377, 5777, 1763, 31607 ** 2)
-
-
-def counted_home(pair, d, n):
-    """How often the pair is multiplied by itself until it is (1, 0) at first; None where never."""
-    made = pair
-    for often in range(1, 2 * n + 3):
-        if made == (1, 0):
-            return often
-        made = pair_times(made, pair, d, n)
-    return None
 
 
 class Kinds(Case):
@@ -115,7 +106,7 @@ class ByTheNumberOneMore(Case):
             many = 0
             for d, x, y in itertools.product(range(-1, n + 2), repeat=3):
                 inside = 1 <= d < n and 0 <= x < n and 0 <= y < n
-                good = inside and (x * x - d * y * y) % n == 1 and counted_home((x, y), d, n) == n + 1
+                good = inside and (x * x - d * y * y) % n == 1 and steps_home((x, y), d, n) == n + 1
                 self.assertIs(is_paper(n, ("other", d, (x, y), rows)), good, (n, d, x, y))
                 many += good
             self.assertEqual(many, (n - 1) // 2 * len([k for k in range(n + 1) if math.gcd(k, n + 1) == 1]))
